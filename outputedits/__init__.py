@@ -1,0 +1,1 @@
+"""Edited outputs led back into records, where the program allows it."""
