@@ -87,3 +87,11 @@ def all_given(program, record):
             raise NoOutput(number)
         found.append(given)
     return found
+
+
+def joined(givens):
+    """The texts that the pieces gave, one behind another."""
+    text = []
+    for given in givens:
+        text.extend(given.text)
+    return text

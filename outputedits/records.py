@@ -2,13 +2,20 @@
 
 MOST_FIELDS = 4
 LONGEST_FIELD = 40
+LOWEST_BYTE = 32
+HIGHEST_BYTE = 126
+
+
+def is_plain(text, longest):
+    """Whether a text has at most so many bytes, each from 32 to 126."""
+    if len(text) > longest:
+        return False
+    return all([LOWEST_BYTE <= byte <= HIGHEST_BYTE for byte in text])
 
 
 def is_field(text):
     """Whether a text is a field."""
-    if len(text) > LONGEST_FIELD:
-        return False
-    return all([32 <= byte <= 126 for byte in text])
+    return is_plain(text, LONGEST_FIELD)
 
 
 def is_record(texts):

@@ -115,6 +115,23 @@ class Form(unittest.TestCase):
         for name, node in self.nodes(ast.Attribute):
             self.assertIn(node.attr, own.union(METHODS), (name, node.lineno))
 
+    def test_locals_are_not_called_like_classes_or_imports(self):
+        for name, tree in self.trees.items():
+            taken = {top.name for top in tree.body if isinstance(top, ast.ClassDef)}
+            taken.update(alias.name for top in tree.body if isinstance(top, ast.ImportFrom) for alias in top.names)
+            for node in ast.walk(tree):
+                if isinstance(node, ast.Name) and isinstance(node.ctx, ast.Store):
+                    self.assertNotIn(node.id, taken, (name, node.lineno))
+                if isinstance(node, ast.arg):
+                    self.assertNotIn(node.arg, taken, (name, node.lineno))
+
+    def test_no_name_is_a_method_and_a_value(self):
+        values = {node.attr for name, node in self.nodes(ast.Attribute) if isinstance(node.ctx, ast.Store)}
+        for name, node in self.nodes(ast.ClassDef):
+            for child in node.body:
+                if isinstance(child, ast.FunctionDef):
+                    self.assertNotIn(child.name, values, (name, child.lineno))
+
     def test_the_interface(self):
         for name, tree in self.trees.items():
             defs = [top.name for top in tree.body if isinstance(top, (ast.FunctionDef, ast.ClassDef))]

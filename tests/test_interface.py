@@ -3,11 +3,13 @@
 import unittest
 
 from calling import (FAR, FIELDS, OUTPUT, SOURCES, UNDO, ask, could, edit, free, out, piece, program, record,
-                     spread, told_fields, whole)
+                     spread, text, told_fields, whole)
 from outputedits.desk import answers
 
 LINE = [call for calls in (
     program('1[+0:-0]&"""x"'), record("ab", ""), OUTPUT, FIELDS, SOURCES, piece(3), piece(-1), UNDO,
+    spread(1, 1), spread(3, 0), could(0, 1, "cd"), could(3, 4, ""), edit(2, 2, "q"), edit(1, 0, ""),
+    whole('zbq"x'), whole([31]), free(3), free(9), UNDO, UNDO, UNDO,
     program("1[+61:-0]"), record(), record("c"), OUTPUT) for call in calls]
 
 TOLD = [
@@ -18,6 +20,19 @@ TOLD = [
     9, 0, 1, 0, 1, 1, 0, 0, 0, 0,
     3, 0, 1, 1,
     1, -2,
+    1, -7,
+    2, 0, 1,
+    1, -6,
+    7, 0, 2, 3, 99, 100, 98, 0,
+    1, -3,
+    1, 0,
+    1, -2,
+    1, 0,
+    1, -1,
+    1, 0,
+    1, -2,
+    1, 1,
+    1, 0,
     1, -7,
     2, 3, 3,
     1, -1,
@@ -81,31 +96,60 @@ class Interface(unittest.TestCase):
                 self.assertEqual(told[5:], [told_fields("ab", "c"), [-7]])
 
 
+    def test_two_hundred_calls_of_all_kinds(self):
+        # The letters of a field go round and back: each round is the same, but for the past that grows.
+        begin = [record("abc", "d"), program('1[+0:-0]^&"-"&2[+0:-0]')]
+        again = [edit(0, 3, "CAB"), whole("ABC-d"), could(4, 5, "xy"), spread(1, 0), free(3), UNDO, edit(9, 9, ""),
+                 edit(0, 3, "ABC"), piece(4), FIELDS, OUTPUT]
+        told = ask(*begin, *again * 18)
+        for k in range(18):
+            self.assertEqual(told[2 + 11 * k:13 + 11 * k], [
+                [0], [0], [0] + told_fields("ABC", "xy"), [0, 0], [0], [2 * k + 1], [-2],
+                [0], [0, 2, 0], told_fields("ABC", "d"), out("ABC-d")], k)
+
+    def test_calls_with_the_longest_texts(self):
+        long = [65] * 10000
+        told = ask(record("ab"), program("1[+0:-0]"), edit(0, 1, long), OUTPUT)
+        self.assertEqual(told[2:], [[-1], out("ab")])
+        told = ask(record("ab"), program("1[+0:-0]"), could(-FAR, FAR, long), whole([65]), OUTPUT)
+        self.assertEqual(told[2:], [[-2], [0], out("A")])
+        told = ask(record("ab"), program("1[+0:-0]"), whole(long), OUTPUT)
+        self.assertEqual(told[2:], [[-1], out("ab")])
+
+
 class Example(unittest.TestCase):
-    """The document's example, as far as its calls are built."""
+    """The document's example, whole."""
 
     def test_example(self):
-        told = ask(program('1[B|.+1:-0]^&", "&1[+0:+1]'), record("Ada Love"), OUTPUT, SOURCES, FIELDS,
-                   piece(0), piece(3), piece(4), piece(5), piece(6), piece(7), UNDO)
+        told = ask(
+            program('1[B|.+1:-0]^&", "&1[+0:+1]'), record("Ada Love"), OUTPUT, SOURCES, could(0, 4, "LOVELACE"), FIELDS,
+            edit(1, 2, "I"), FIELDS, edit(4, 5, ";"), edit(0, 1, "l"), FIELDS, edit(6, 7, "B"), FIELDS,
+            edit(0, 0, "X Y"), FIELDS, OUTPUT, free(0), UNDO, FIELDS)
         self.assertEqual(told, [
             [0],
             [0],
             out("LOVE, A"),
             [0, 1, 4, 1, 5, 1, 6, 1, 7, 0, 0, 0, 0, 1, 0],
+            [0, 1, 12] + text("Ada LoveLACE"),
             told_fields("Ada Love"),
-            [0, 0, 0],
-            [0, 0, 3],
-            [0, 1, 0],
-            [0, 1, 1],
-            [0, 2, 0],
-            [-2],
-            [-7],
+            [0],
+            told_fields("Ada LIve"),
+            [-3],
+            [-9],
+            told_fields("Ada LIve"),
+            [0],
+            told_fields("Bda LIve"),
+            [0],
+            told_fields("Bda X YLIve"),
+            out("X YLIVE, B"),
+            [0] + list(range(33, 97)) + list(range(123, 127)),
+            [2],
+            told_fields("Bda LIve"),
         ])
 
-    def test_the_records_that_the_example_leads_to(self):
-        show = program('1[B|.+1:-0]^&", "&1[+0:+1]')
-        told = ask(show, record("Ada LoveLACE"), OUTPUT, record("Bda X YLIve"), OUTPUT)
-        self.assertEqual(told[2::2], [out("LOVELACE, A"), out("X YLIVE, B")])
+    def test_pieces_of_the_example(self):
+        told = ask(program('1[B|.+1:-0]^&", "&1[+0:+1]'), record("Ada Love"), *[piece(i) for i in (0, 3, 4, 5, 6, 7)])
+        self.assertEqual(told[2:], [[0, 0, 0], [0, 0, 3], [0, 1, 0], [0, 1, 1], [0, 2, 0], [-2]])
 
 
 if __name__ == "__main__":

@@ -2,7 +2,7 @@
 
 import unittest
 
-from calling import FAR, OUTPUT, SOURCES, ask, last, out, piece, program, record
+from calling import OUTPUT, ask, out, program, record
 
 
 class Output(unittest.TestCase):
@@ -153,15 +153,6 @@ class Output(unittest.TestCase):
         self.gives("ab", '"x"&1[+3:-0]', 1)
         self.gives("ab", '"x"&1[+3:-0]&2[+0:-0]', 1)
         self.gives("ab", '"a"&"b"&"c"&"d"&1[+0:-0]&2[+0:-0]', 5)
-
-    def test_no_output_comes_ahead_of_all_else(self):
-        begin = (record("ab"), program('"x"&2[+0:-0]'))
-        for call in (OUTPUT, SOURCES, piece(0), piece(-1), piece(FAR), piece(-FAR)):
-            self.assertEqual(last(*begin, call), [1, 1])
-
-    def test_no_output_leaves_the_object_as_it_was(self):
-        told = ask(record("ab"), program('"x"&2[+0:-0]'), OUTPUT, SOURCES, piece(0), record("ab", "c"), OUTPUT)
-        self.assertEqual(told[-1], out("xc"))
 
 
 if __name__ == "__main__":
